@@ -1,0 +1,1 @@
+"""Pays by outcomes, for works that cannot be seen."""
