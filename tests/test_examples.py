@@ -21,6 +21,30 @@ EXAMPLES = {
 >>> [[pay_cost(job, work) for work in range(3)], least_pay(job, 2).pay, shown, pay_cost(mixed, 0), [pay_cost(mixed, work, rising=True) for work in range(3)]]
 [[(0, 1), (4, 1), (9, 1)], ((0, 1), (12, 1)), [True, False, True, False, True], None, [None, (1, 1), (2, 1)]]
 """,
+    "choices": """
+>>> from outcomepay.choices import Best, best_profit, choose
+>>> from outcomepay.jobs import Job
+>>> job, poor = Job((0, 10), ((0, (3, 1)), (2, (1, 1)), (5, (1, 3)))), Job((0, 1), ((1, (1, 1)), (2, (1, 2))))
+>>> found = choose(job)
+>>> [found.work, [work for work, need in found], best_profit(job), choose(poor).work, best_profit(poor), Best(1, found.needs).shows(job), found.shows(job)]
+[0, [0, 1, 2], (5, 2), None, (0, 1), False, True]
+""",
+    "shares": """
+>>> from outcomepay.jobs import Job
+>>> from outcomepay.shares import best_share, done, turns
+>>> job, rich = Job((0, 10), ((0, (3, 1)), (2, (1, 1)), (5, (1, 3)))), Job((0, 20), ((0, (1, 0)), (2, (1, 1)), (3, (1, 3))))
+>>> [turns(job), best_share(job), turns(rich), [done(rich, share) for share in ((0, 1), (1, 5), (1, 1))], best_share(rich)]
+[[((0, 1), 0), ((4, 5), 1)], ((0, 1), (5, 2)), [((0, 1), None), ((1, 5), 2)], [None, 2, 2], ((1, 5), (12, 1))]
+""",
+    "seen": """
+>>> from outcomepay.jobs import Job
+>>> from outcomepay.seen import Seen, Unseen, offer, offer_cost, see, seen_cost
+>>> job, fine = Job((0, 4, 8), ((0, (2, 1, 1)), (2, (1, 2, 1)))), ((0,), (1,), (2,))
+>>> offers = {((0,), (1, 2)): 0, fine: 1, ((0, 1), (2,)): 0}
+>>> shown = [Seen(((0, 1), (8, 1), (0, 1)), {0: (2, 1)}).shows(job, 1, fine), Seen(((0, 1), (8, 1), (0, 1)), {0: (2, 1)}).shows(job, 1, ((0,), (1, 2))), Unseen({0: (1, 1)}).shows(job, 1, ((0, 1), (2,)))]
+>>> [[seen_cost(job, 1, groups) for groups in sorted(offers)], see(job, 1, fine).pay, shown, offer(job, 1, offers).groups, offer_cost(job, 1, offers)]
+[[(4, 1), (6, 1), None], ((0, 1), (8, 1), (0, 1)), [True, False, True], ((0,), (1,), (2,)), (5, 1)]
+""",
 }
 
 

@@ -29,6 +29,9 @@ INTERFACE = {
     ),
     "jobs.py": "Job gain profit wanted",
     "pays.py": "least_pay pay_cost Enough Barred",
+    "choices.py": "choose best_profit Best",
+    "shares.py": "turns done best_share",
+    "seen.py": "see seen_cost Seen Unseen offer offer_cost Offer",
 }
 
 

@@ -1,12 +1,12 @@
 import copy
 import unittest
-from fractions import Fraction
 from random import Random
 
 from outcomepay.errors import BadJob, BadWork
 from outcomepay.jobs import Job
 from outcomepay.pays import Barred, Enough, least_pay, pay_cost
 from tests import model
+from tests.changes import changed_dict, changed_pay
 from tests.wrong import anything
 
 JOB = Job((0, 10), ((0, (3, 1)), (2, (1, 1)), (5, (1, 3))))
@@ -307,43 +307,6 @@ class BarredShows(unittest.TestCase):
                 self.assertIs(changed.shows(job, work, rising=rising), expected)
                 told[expected] += 1
         self.assertGreater(min(told.values()), 100, told)
-
-
-def changed_number(luck, fraction):
-    step = Fraction(luck.choice((-1, 1)), luck.choice((1, 2, 4, 100)))
-    return model.pair(model.exact(fraction) + step)
-
-
-def changed_pay(luck, pay):
-    """The pay, or one with another amount, another order or another length."""
-    choice = luck.randrange(6)
-    if choice == 0:
-        at = luck.randrange(len(pay))
-        return pay[:at] + (changed_number(luck, pay[at]),) + pay[at + 1:]
-    if choice == 1:
-        return tuple(luck.sample(pay, len(pay)))
-    if choice == 2:
-        return luck.choice((pay[1:], pay + (ZERO,), pay + pay[:1], ()))
-    return pay
-
-
-def changed_dict(luck, job, held, none):
-    """The dict in any order, or one with another number, one more or one less."""
-    items = list(held.items())
-    luck.shuffle(items)
-    found = dict(items)
-    choice = luck.randrange(5)
-    if choice == 0 and found:
-        key = luck.choice(list(found))
-        found[key] = changed_number(luck, found[key])
-    elif choice == 1:
-        key = luck.randrange(-len(job), len(job) + 2)
-        found[key] = luck.choice((ZERO, (1, 2), found.get(key, ONE)))
-    elif choice == 2 and found:
-        del found[luck.choice(list(found))]
-    elif choice == 3 and none:
-        found[None] = luck.choice((ZERO, (1, 100)))
-    return found
 
 
 if __name__ == "__main__":
