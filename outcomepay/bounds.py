@@ -34,12 +34,16 @@ def weights_show(views, efforts, work, weights, cost):
     factors = [weights[other] for other in others]
     if not all([is_amount(factor) for factor in factors]):
         return False
-    rows = [_differences(views, work, other) for other in others]
-    for case, chance in enumerate(views[work]):
-        if is_less(chance, weighted(factors, [row[case] for row in rows])):
-            return False
+    if not are_within(factors, [_differences(views, work, other) for other in others], views[work]):
+        return False
     needs = [_effort_difference(efforts, work, other) for other in others]
     return weighted(factors, needs) == cost
+
+
+def are_within(factors, rows, limits):
+    """Whether the rows, each multiplied by its factor, are together at most the limits."""
+    sums = [weighted(factors, [row[at] for row in rows]) for at in range(len(limits))]
+    return not any([is_less(limit, reached) for limit, reached in zip(limits, sums)])
 
 
 def mix_shows(views, efforts, work, mix):

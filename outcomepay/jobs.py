@@ -14,7 +14,7 @@ class Job:
     """A job with worths for its outcomes and with works; it never changes."""
 
     def __init__(self, worths, works):
-        if not _are_worths(worths):
+        if not are_worths(worths):
             raise BadJob("WORTHS")
         if not _are_works(works, len(worths)):
             raise BadJob("WORKS")
@@ -38,7 +38,7 @@ class Job:
         return isinstance(other, Job) and self._worths == other._worths and self._works == other._works
 
 
-def _are_worths(worths):
+def are_worths(worths):
     """Whether these are worths for two to four outcomes."""
     if not isinstance(worths, tuple) or not FEWEST <= len(worths) <= MOST:
         return False
@@ -49,10 +49,10 @@ def _are_works(works, outcomes):
     """Whether these are two to four works for so many outcomes."""
     if not isinstance(works, tuple) or not FEWEST <= len(works) <= MOST:
         return False
-    return all([_is_work(work, outcomes) for work in works])
+    return all([is_work(work, outcomes) for work in works])
 
 
-def _is_work(work, outcomes):
+def is_work(work, outcomes):
     """Whether this is a pair of an effort and parts for so many outcomes."""
     if not isinstance(work, tuple) or len(work) != 2:
         return False

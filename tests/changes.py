@@ -43,3 +43,42 @@ def changed_dict(luck, job, held, none):
     elif choice == 3 and none:
         found[None] = luck.choice((ZERO, (1, 100)))
     return found
+
+
+def changed_choices(luck, job, weights):
+    """Weights of choices in any order, or with another number, one more or one less."""
+    items = list(weights.items())
+    luck.shuffle(items)
+    found = dict(items)
+    choice = luck.randrange(6)
+    if choice == 0 and found:
+        key = luck.choice(list(found))
+        found[key] = changed_number(luck, found[key])
+    elif choice == 1:
+        key = some_choice(luck, job)
+        found[key] = luck.choice((ZERO, (1, 2), found.get(key, ONE)))
+    elif choice == 2 and found:
+        del found[luck.choice(list(found))]
+    elif choice == 3 and found:
+        found = {key: model.pair(2 * model.exact(weight)) for key, weight in found.items()}
+    return found
+
+
+def some_choice(luck, job):
+    """A triple that may be another choice, or none at all."""
+    if luck.random() < 0.3:
+        return (luck.randint(0, 1), None, None)
+    return (luck.randint(-1, 2), luck.choice((0, 1, 0, 1, 2, -1, None)), luck.choice((*range(-1, len(job) + 1), None)))
+
+
+def changed_pays(luck, pays):
+    """Both pays, or a changed one, or both turned, or one more or one less."""
+    choice = luck.randrange(8)
+    if choice == 0:
+        return pays[::-1]
+    if choice == 1:
+        return luck.choice(((), pays[:1], pays + pays[:1]))
+    if choice < 4:
+        at = luck.randint(0, 1)
+        return pays[:at] + (changed_pay(luck, pays[at]),) + pays[at + 1:]
+    return pays

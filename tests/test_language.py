@@ -32,6 +32,10 @@ INTERFACE = {
     "choices.py": "choose best_profit Best",
     "shares.py": "turns done best_share",
     "seen.py": "see seen_cost Seen Unseen offer offer_cost Offer",
+    "menus.py": "menu menu_cost Menu NoMenu best_wish",
+    "wages.py": "wage least_wage Wage NoWage rule rule_wage Rule",
+    "sessions.py": "Session",
+    "texts.py": "job_text pay_text read_job read_pay",
 }
 
 
@@ -129,6 +133,8 @@ class Language(unittest.TestCase):
 
     def test_names(self):
         builtins = set(dir(__builtins__) if not isinstance(__builtins__, dict) else __builtins__)
+        # A doctest that ran before leaves this name among the builtins.
+        builtins.discard("_")
         for name, tree in trees():
             imported = {each.name for node in tree.body if isinstance(node, ast.ImportFrom) for each in node.names}
             imported |= {node.name for node in tree.body if isinstance(node, ast.ClassDef)}
